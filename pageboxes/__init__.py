@@ -1,0 +1,1 @@
+"""Pages of boxes, and what one can do on them."""

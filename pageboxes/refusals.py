@@ -1,0 +1,13 @@
+"""The errors that stand for refusals, one for each."""
+
+
+class NotAPage(Exception):
+    pass
+
+
+class NotRules(Exception):
+    pass
+
+
+class NoSuchBox(Exception):
+    pass
