@@ -5,7 +5,7 @@ from pageboxes.refusals import NotAPage
 from pageboxes.texts import QUOTE, Words, is_small_word
 
 NO_IDS = ("label", "by", "hint", "hidden", "off", "on", "order", "press")
-DEEDS = ("show", "hide", "flip")
+ACT_WORDS = ("show", "hide", "flip")
 ORDER_NUMBERS = ("1", "2", "3", "4", "5", "6", "7", "8", "9")
 LONGEST_ID = 6
 LONGEST_SAYING = 20
@@ -32,6 +32,9 @@ class Box:
         if self.hint is not None:
             idents.append(self.hint)
         return idents
+
+    def does_something(self):
+        return self.kind == "check" or self.acts != []
 
 
 def is_ident(word):
@@ -76,7 +79,7 @@ def take_order(words):
 
 def take_act(words):
     halves = words.take().split(":")
-    if len(halves) != 2 or halves[0] not in DEEDS or not is_ident(halves[1]):
+    if len(halves) != 2 or halves[0] not in ACT_WORDS or not is_ident(halves[1]):
         raise NotAPage()
     return (halves[0], halves[1])
 

@@ -1,8 +1,9 @@
 """The calls: an object that keeps a page, its state and rules, and what it answers."""
 
-from pageboxes.refusals import NoSuchBox, NotAPage, NotRules
+from pageboxes.refusals import CannotBePressed, DoesNothing, NoSuchBox, NotAPage, NotRules
 from pageboxes.rules import RULES_AT_FIRST, Rules
 from pageboxes.sheets import SHEET_AT_FIRST, Sheet
+from pageboxes.states import State
 from pageboxes.texts import counted, counted_all, text_of
 
 PAGE = 0
@@ -12,7 +13,11 @@ SHOWRULES = 3
 PARENT = 4
 KIDS = 5
 INSIDE = 6
-SIZE = 12
+VISIBLE = 7
+PRESS = 8
+DEEDS = 9
+NOW = 10
+RESET = 11
 
 
 class Desk:
@@ -22,8 +27,7 @@ class Desk:
 
     def put_sheet(self, sheet):
         self.sheet = sheet
-        self.hidden = [box.hidden for box in sheet.boxes]
-        self.on = [box.on for box in sheet.boxes]
+        self.state = State(sheet)
 
     def take_page(self, text):
         self.put_sheet(Sheet(text))
@@ -52,17 +56,34 @@ class Desk:
         sheet = self.sheet
         return self.idents_at([place for place in range(len(sheet.boxes)) if outer in sheet.places_around(place)])
 
-    def is_visible(self, place):
-        return not any([self.hidden[spot] for spot in [place] + self.sheet.places_around(place)])
+    def visible(self, ident):
+        place = self.sheet.place_of(ident)
+        return [int(self.state.is_visible(place)), int(self.state.can_be_pressed(place))]
+
+    def state_counts(self):
+        return [len(self.state.hidden_places()), len(self.state.on_places())]
+
+    def press(self, ident):
+        self.state.press(self.sheet.place_of(ident))
+        return self.state_counts()
+
+    def deeds(self):
+        return self.idents_at(self.state.pressable_places())
+
+    def now(self):
+        return self.idents_at(self.state.hidden_places()) + self.idents_at(self.state.on_places())
+
+    def reset(self):
+        self.state = State(self.sheet)
+        return self.state_counts()
 
     def size(self):
         boxes = self.sheet.boxes
-        visible = [place for place in range(len(boxes)) if self.is_visible(place)]
-        return [len(boxes), max([box.deep for box in boxes]), len(visible)]
+        return [len(boxes), max([box.deep for box in boxes]), len(self.state.visible_places())]
 
 
 def has_text(number):
-    return number in (PAGE, RULES, PARENT, KIDS, INSIDE)
+    return number in (PAGE, RULES, PARENT, KIDS, INSIDE, VISIBLE, PRESS)
 
 
 def answer_text_call(desk, number, text):
@@ -74,7 +95,11 @@ def answer_text_call(desk, number, text):
         return desk.parent(text)
     if number == KIDS:
         return desk.kids(text)
-    return desk.inside(text)
+    if number == INSIDE:
+        return desk.inside(text)
+    if number == VISIBLE:
+        return desk.visible(text)
+    return desk.press(text)
 
 
 def answer_or_refuse(desk, number, text):
@@ -86,6 +111,10 @@ def answer_or_refuse(desk, number, text):
         return [-1]
     except NoSuchBox:
         return [-3]
+    except DoesNothing:
+        return [-5]
+    except CannotBePressed:
+        return [-6]
 
 
 def answer_bare_call(desk, number):
@@ -93,10 +122,13 @@ def answer_bare_call(desk, number):
         return counted(desk.sheet.text)
     if number == SHOWRULES:
         return counted(desk.kept_rules.text)
-    if number == SIZE:
-        return desk.size()
-    # The calls that aren't built yet: an answer made up here would pass for a true one.
-    raise NotImplementedError("no such call")
+    if number == DEEDS:
+        return desk.deeds()
+    if number == NOW:
+        return desk.now()
+    if number == RESET:
+        return desk.reset()
+    return desk.size()
 
 
 def answers(calls):

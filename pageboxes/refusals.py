@@ -11,3 +11,11 @@ class NotRules(Exception):
 
 class NoSuchBox(Exception):
     pass
+
+
+class DoesNothing(Exception):
+    pass
+
+
+class CannotBePressed(Exception):
+    pass

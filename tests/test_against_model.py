@@ -12,12 +12,14 @@ SAYING = r'"(?=[^"]{1,20}")[A-Za-z0-9]+(?: [A-Za-z0-9]+)*"'
 ACT = rf"(?:show|hide|flip):{ID}"
 LINE = re.compile(
     rf"(?P<blanks>(?:  ){{0,5}})(?P<kind>{'|'.join(KINDS)}) (?P<ident>{ID})(?: {SAYING})?(?: label {SAYING})?"
-    rf"(?: by (?P<by>{ID}(?: {ID}){{0,2}}))?(?: hint (?P<hint>{ID}))?(?P<hidden> hidden)?(?: off)?(?P<on> on)?"
+    rf"(?: by (?P<by>{ID}(?: {ID}){{0,2}}))?(?: hint (?P<hint>{ID}))?(?P<hidden> hidden)?(?P<off> off)?(?P<on> on)?"
     rf"(?: order [1-9])?(?: press (?P<acts>{ACT}(?: {ACT}){{0,2}}))?\n", re.ASCII)
 SOURCE = r"(?:by|label|text|kids|hint)"
 RULE = re.compile(
     rf"(?P<kind>[a-z0-9]+) (?!(?:focus|whole|from)\b)[a-z]{{1,8}}(?P<focus> focus)?(?: whole)?"
     rf"(?: from (?P<sources>{SOURCE}(?: {SOURCE})*))?\n", re.ASCII)
+# The kinds that matter to a state, so that there's much to press.
+LIVELY = ["part", "link", "button", "button", "check", "check", "modal"]
 HOMES = {"row": {"table"}, "cell": {"row"}, "th": {"row"}, "item": {"list"}}
 
 
@@ -88,6 +90,67 @@ def model_looks(boxes):
     return looks
 
 
+class ModelState:
+    """A page's state as sets of ids, with the ids around each box as a path."""
+
+    def __init__(self, text):
+        self.boxes = matches(LINE, text)
+        self.paths = {}
+        path = []
+        for box in self.boxes:
+            path = path[:len(box["blanks"]) // 2] + [box["ident"]]
+            self.paths[box["ident"]] = path
+        self.reset()
+
+    def reset(self):
+        self.hidden = {box["ident"] for box in self.boxes if box["hidden"]}
+        self.on = {box["ident"] for box in self.boxes if box["on"]}
+        return self.counts()
+
+    def counts(self):
+        return [len(self.hidden), len(self.on)]
+
+    def ordered(self, idents):
+        return list_answer(*[box["ident"] for box in self.boxes if box["ident"] in idents])
+
+    def seen(self):
+        return {ident for ident, path in self.paths.items() if self.hidden.isdisjoint(path)}
+
+    def able(self):
+        seen = self.seen()
+        modals = [box["ident"] for box in self.boxes if box["kind"] == "modal" and box["ident"] in seen]
+        return {
+            box["ident"] for box in self.boxes if (box["kind"] == "check" or box["acts"]) and not box["off"]
+            and box["ident"] in seen and (not modals or modals[-1] in self.paths[box["ident"]][:-1])
+        }
+
+    def size(self):
+        return [len(self.boxes), max(map(len, self.paths.values())) - 1, len(self.seen())]
+
+    def now(self):
+        return self.ordered(self.hidden) + self.ordered(self.on)
+
+    def deeds(self):
+        return self.ordered(self.able())
+
+    def visible(self, ident):
+        return [int(ident in self.seen()), int(ident in self.able())] if ident in self.paths else [-3]
+
+    def press(self, ident):
+        if ident not in self.paths:
+            return [-3]
+        box = [box for box in self.boxes if box["ident"] == ident][0]
+        if box["kind"] != "check" and not box["acts"]:
+            return [-5]
+        if ident not in self.able():
+            return [-6]
+        if box["kind"] == "check":
+            self.on ^= {ident}
+        for deed, named in re.findall(r"(show|hide|flip):([a-z]+)", box["acts"] or ""):
+            self.hidden = {"show": self.hidden - {named}, "hide": self.hidden | {named}, "flip": self.hidden ^ {named}}[deed]
+        return self.counts()
+
+
 def random_ident(source):
     return "".join(source.choice("abcxyz") for letter in range(source.choice([1, 1, 2, 6])))
 
@@ -96,9 +159,10 @@ def random_saying(source):
     return '"' + " ".join(random_ident(source).title() for word in range(source.choice([1, 2, 3]))) + '"'
 
 
-def random_page(source):
+def random_page(source, kinds=tuple(KINDS[1:]), often=0.25):
+    many = source.randint(1, 16)
     idents = ["top"]
-    while len(idents) < source.randint(1, 16):
+    while len(idents) < many:
         idents = sorted(set(idents[1:] + [random_ident(source)]) - {"top", "by"})
         source.shuffle(idents)
         idents.insert(0, "top")
@@ -109,21 +173,30 @@ def random_page(source):
         del stack[deep:]
         home = stack[-1] if stack else None
         choices = [inner for inner in HOMES if home in HOMES[inner]]
-        kind = source.choice(choices or [kind for kind in KINDS[1:] if kind not in HOMES]) if place else "page"
+        kind = source.choice(choices or [kind for kind in kinds if kind not in HOMES]) if place else "page"
         stack.append(kind)
-        lines.append("  " * deep + kind + " " + ident + random_end(source, kind, idents, place))
+        lines.append("  " * deep + kind + " " + ident + random_end(source, kind, idents, place, often))
     return "".join(line + "\n" for line in lines)
 
 
-def random_end(source, kind, idents, place):
+def random_end(source, kind, idents, place, often):
     acts = [source.choice(["show:", "hide:", "flip:"]) + source.choice(idents) for act in range(source.randint(1, 3))]
     by = source.sample(idents, min(len(idents), source.randint(1, 3)))
     ends = [
         random_saying(source), "label " + random_saying(source), "by " + " ".join(by), "hint " + source.choice(idents),
         "hidden" * (place > 0), "off", "on" * (kind == "check"), "order " + source.choice("123456789"),
-        ("press " + " ".join(acts)) * (kind in ("link", "button", "check")),
     ]
-    return "".join(" " + end for end in ends if end and source.random() < 0.25)
+    press = " press " + " ".join(acts) if kind in ("link", "button", "check") and source.random() < often else ""
+    return "".join(" " + end for end in ends if end and source.random() < 0.25) + press
+
+
+def random_walk(source, idents, many):
+    """Calls that press, show or reset a state, mostly with ids of the page."""
+    walk = []
+    for turn in range(many):
+        name = source.choice(["press"] * 8 + ["visible", "visible", "deeds", "now", "size", "reset"])
+        walk.append((name, source.choice(idents + ["gone"])) if name in ("press", "visible") else (name,))
+    return walk
 
 
 def spoiled(source, text, words):
@@ -172,6 +245,22 @@ class TestAgainstModel(CallsCase):
         source = random.Random(1)
         for turn in range(300):
             self.assertTrue(self.check_page(random_page(source)))
+
+    def test_states(self):
+        source = random.Random(4)
+        pressed = {}
+        for turn in range(1500):
+            text = random_page(source, LIVELY, 0.75)
+            model = ModelState(text)
+            walk = random_walk(source, list(model.paths), 48)
+            told = [getattr(model, name)(*rest) for name, *rest in walk]
+            self.assertEqual(ask(("page", text), *walk)[1:], told, text)
+            for call, answer in zip(walk, told):
+                if call[0] == "press":
+                    pressed[min(answer[0], 0)] = pressed.get(min(answer[0], 0), 0) + 1
+        # Each sort of answer came often enough to tell something.
+        self.assertEqual(sorted(pressed), [-6, -5, -3, 0])
+        self.assertGreater(min(pressed.values()), 1000)
 
     def test_spoiled_pages(self):
         source = random.Random(2)

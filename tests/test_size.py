@@ -2,7 +2,7 @@
 
 import unittest
 
-from tests.helper import EXAMPLE, OTHER_RULES, CallsCase, ask
+from tests.helper import EXAMPLE, OTHER_RULES, CallsCase, ask, page_of
 
 STAIRS = ["page a", "  part b", "    part c", "      part d", "        part e", "          p f"]
 
@@ -46,6 +46,20 @@ class TestSize(CallsCase):
         hidden = "page top\n  part a hidden\n    p b\n"
         given = ask(("page", hidden), ("size",), ("page", shown), ("size",), ("page", hidden), ("rules", OTHER_RULES), ("size",))
         self.assertEqual(given, [[3], [3, 2, 1], [3], [3, 2, 3], [3], [5], [3, 2, 1]])
+
+    def test_visible_as_it_is_now(self):
+        self.assert_answers(
+            EXAMPLE, ("size", [11, 2, 6]), ("press more", [1, 0]), ("size", [11, 2, 8]), ("press stay", [1, 1]),
+            ("size", [11, 2, 8]), ("press away", [0, 1]), ("size", [11, 2, 11]), ("press stay", [-6]), ("size", [11, 2, 11]),
+            ("press no", [1, 1]), ("size", [11, 2, 8]), ("reset", [2, 0]), ("size", [11, 2, 6]))
+
+    def test_as_deep_when_the_deepest_is_hidden(self):
+        page = page_of("  button a press hide:b", "  part b", "    part c", "      p d")
+        self.assert_answers(page, ("size", [5, 3, 5]), ("press a", [1, 0]), ("size", [5, 3, 2]))
+
+    def test_none_visible(self):
+        page = page_of("  button a press hide:top", "  p b hidden")
+        self.assert_answers(page, ("size", [3, 1, 2]), ("press a", [2, 0]), ("size", [3, 1, 0]), ("reset", [1, 0]), ("size", [3, 1, 2]))
 
 
 if __name__ == "__main__":
